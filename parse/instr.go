@@ -3,29 +3,15 @@ package parse
 import (
 	"lathe/api"
 	"lathe/ir"
+	"lathe/words"
 )
-
-// opWords are the words of the forms, by their operations.
-var opWords = [...]string{
-	api.Add: "add", api.Sub: "sub", api.Mul: "mul",
-	api.Udiv: "udiv", api.Sdiv: "sdiv", api.Urem: "urem", api.Srem: "srem",
-	api.And: "and", api.Or: "or", api.Xor: "xor",
-	api.Shl: "shl", api.Lshr: "lshr", api.Ashr: "ashr",
-	api.Eq: "eq", api.Ne: "ne", api.Ult: "ult", api.Ule: "ule", api.Slt: "slt", api.Sle: "sle",
-	api.Zext: "zext", api.Sext: "sext", api.Trunc: "trunc",
-	api.Select: "select", api.Freeze: "freeze", api.Phi: "phi",
-	api.Alloca: "alloca", api.Load: "load", api.Store: "store", api.Gep: "gep",
-	api.Call: "call", api.Br: "br", api.Brif: "brif", api.Ret: "ret", api.Halt: "halt",
-}
 
 // opOf is the operation of a form's word, 0 of any other piece.
 func opOf(piece api.Token) int {
-	for op, word := range opWords {
-		if piece.Kind == api.TokWord && piece.Text == word {
-			return op
-		}
+	if piece.Kind != api.TokWord {
+		return 0
 	}
-	return 0
+	return words.Op(piece.Text)
 }
 
 // instruction reads one with its line's end.
