@@ -7,6 +7,7 @@ import (
 
 	"lathe/api"
 	"lathe/ir"
+	"lathe/refine"
 	"lathe/run"
 	"lathe/verify"
 )
@@ -128,7 +129,7 @@ func TestEachFuel(t *testing.T) {
 	checkOften(t, met, 10, api.Done, api.Undef, api.NoFuel, api.Deep, api.Loose)
 }
 
-// P11.3: with arguments that refine others the outcome refines the other. But for one thing that the chapter's rules rule out: where a call answers the address of a block that is no more, it answers poison; if that address is any with the other arguments, it answers any there (TestLostAddress).
+// P11.3 and P12.3: with arguments that refine others the outcome refines the other. But for one thing that the chapter's rules rule out: where a call answers the address of a block that is no more, it answers poison; if that address is any with the other arguments, it answers any there (TestLostAddress).
 func TestBetterStaysBetter(t *testing.T) {
 	r, met, better, lost := seeded(114), map[int]int{}, 0, 0
 	for range 30000 {
@@ -140,7 +141,7 @@ func TestBetterStaysBetter(t *testing.T) {
 			was, by = append(was, v), append(by, r.better(m, typ, v))
 		}
 		out, refined := run.Run(m, fn, was, script, 500), run.Run(m, fn, by, script, 500)
-		if !outcomeRefines(refined, out) {
+		if !refine.Refines(out, refined) {
 			if machineOf(m, fn, by, script, 500).isLost {
 				lost++
 				continue
